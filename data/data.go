@@ -31,3 +31,11 @@ func Trust(t api.Trust) api.Trust {
 func SameTrust(a, b api.Trust) bool {
 	return a.Threshold == b.Threshold && slices.Equal(a.Nodes, b.Nodes) && slices.EqualFunc(a.Inner, b.Inner, SameTrust)
 }
+
+// Member copies a member.
+func Member(m api.Member) api.Member {
+	return api.Member{Declared: m.Declared, Trust: Trust(m.Trust)}
+}
+
+// Config copies a configuration.
+func Config(c api.Config) api.Config { return api.Config{Members: List(c.Members, Member)} }
