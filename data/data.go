@@ -7,12 +7,12 @@ import (
 	"trustquorum/api"
 )
 
-// List copies a list, element by element.
-func List[T any](l []T, one func(T) T) []T {
+// List copies a list, element by element, or makes another one of it.
+func List[T, U any](l []T, one func(T) U) []U {
 	if len(l) == 0 {
 		return nil
 	}
-	c := make([]T, len(l))
+	c := make([]U, len(l))
 	for i, x := range l {
 		c[i] = one(x)
 	}
@@ -39,3 +39,14 @@ func Member(m api.Member) api.Member {
 
 // Config copies a configuration.
 func Config(c api.Config) api.Config { return api.Config{Members: List(c.Members, Member)} }
+
+// Declaration copies a declaration.
+func Declaration(d api.Declaration) api.Declaration {
+	d.Trust = Trust(d.Trust)
+	return d
+}
+
+// Registry copies a registry.
+func Registry(r api.Registry) api.Registry {
+	return api.Registry{Entries: List(r.Entries, func(l []api.Declaration) []api.Declaration { return List(l, Declaration) })}
+}
