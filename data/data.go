@@ -1,11 +1,7 @@
-// Package data copies and compares the types of api that contain lists. Results of all layers are copies, so that they share no memory with arguments.
+// Package data copies the types of api that contain lists. Results of all layers are copies, so that they share no memory with arguments.
 package data
 
-import (
-	"slices"
-
-	"trustquorum/api"
-)
+import "trustquorum/api"
 
 // List copies a list, element by element, or makes another one of it.
 func List[T, U any](l []T, one func(T) U) []U {
@@ -25,11 +21,6 @@ func Flat[T any](l []T) []T { return append([]T(nil), l...) }
 // Trust copies a trust.
 func Trust(t api.Trust) api.Trust {
 	return api.Trust{Threshold: t.Threshold, Nodes: Flat(t.Nodes), Inner: List(t.Inner, Trust)}
-}
-
-// SameTrust reports whether two trusts are equal, with all entries in their order.
-func SameTrust(a, b api.Trust) bool {
-	return a.Threshold == b.Threshold && slices.Equal(a.Nodes, b.Nodes) && slices.EqualFunc(a.Inner, b.Inner, SameTrust)
 }
 
 // Member copies a member.
