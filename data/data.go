@@ -41,3 +41,16 @@ func Declaration(d api.Declaration) api.Declaration {
 func Registry(r api.Registry) api.Registry {
 	return api.Registry{Entries: List(r.Entries, func(l []api.Declaration) []api.Declaration { return List(l, Declaration) })}
 }
+
+// Message copies a message.
+func Message(m api.Message) api.Message {
+	m.Trust, m.Votes, m.Accepts = Trust(m.Trust), Flat(m.Votes), Flat(m.Accepts)
+	return m
+}
+
+// Voter copies a voter.
+func Voter(v api.Voter) api.Voter {
+	v.Trust, v.Votes, v.Accepts, v.Confirms = Trust(v.Trust), Flat(v.Votes), Flat(v.Accepts), Flat(v.Confirms)
+	v.Heard = List(v.Heard, Message)
+	return v
+}

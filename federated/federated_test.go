@@ -4,7 +4,6 @@ import (
 	"fmt"
 	"math"
 	"math/rand"
-	"slices"
 	"testing"
 
 	"trustquorum/api"
@@ -195,5 +194,4 @@ func TestConsequences(t *testing.T) {
 			}
 		}
 	}
-	same(t, "list", slices.Contains(noSets, 0), false)
 }
