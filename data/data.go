@@ -54,3 +54,9 @@ func Voter(v api.Voter) api.Voter {
 	v.Heard = List(v.Heard, Message)
 	return v
 }
+
+// Meeting copies a meeting.
+func Meeting(m api.Meeting) api.Meeting {
+	m.Voters = List(m.Voters, Voter)
+	return m
+}
