@@ -60,3 +60,16 @@ func Meeting(m api.Meeting) api.Meeting {
 	m.Voters = List(m.Voters, Voter)
 	return m
 }
+
+// Nomination copies a nomination.
+func Nomination(m api.Nomination) api.Nomination {
+	m.Trust, m.Votes, m.Accepts = Trust(m.Trust), Flat(m.Votes), Flat(m.Accepts)
+	return m
+}
+
+// Nominator copies a nominator.
+func Nominator(n api.Nominator) api.Nominator {
+	n.Trust, n.Votes, n.Accepts, n.Candidates = Trust(n.Trust), Flat(n.Votes), Flat(n.Accepts), Flat(n.Candidates)
+	n.Heard = List(n.Heard, Nomination)
+	return n
+}
