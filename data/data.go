@@ -73,3 +73,9 @@ func Nominator(n api.Nominator) api.Nominator {
 	n.Heard = List(n.Heard, Nomination)
 	return n
 }
+
+// Envelope copies an envelope.
+func Envelope(e api.Envelope) api.Envelope {
+	e.Trust = Trust(e.Trust)
+	return e
+}
