@@ -79,3 +79,9 @@ func Envelope(e api.Envelope) api.Envelope {
 	e.Trust = Trust(e.Trust)
 	return e
 }
+
+// Machine copies a machine.
+func Machine(m api.Machine) api.Machine {
+	m.Trust, m.Heard = Trust(m.Trust), List(m.Heard, Envelope)
+	return m
+}
