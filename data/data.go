@@ -85,3 +85,9 @@ func Machine(m api.Machine) api.Machine {
 	m.Trust, m.Heard = Trust(m.Trust), List(m.Heard, Envelope)
 	return m
 }
+
+// Slot copies a slot.
+func Slot(s api.Slot) api.Slot {
+	s.Nominator, s.Machine = Nominator(s.Nominator), Machine(s.Machine)
+	return s
+}
