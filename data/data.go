@@ -91,3 +91,15 @@ func Slot(s api.Slot) api.Slot {
 	s.Nominator, s.Machine = Nominator(s.Nominator), Machine(s.Machine)
 	return s
 }
+
+// Letter copies a letter.
+func Letter(l api.Letter) api.Letter {
+	l.Nomination, l.Envelope = Nomination(l.Nomination), Envelope(l.Envelope)
+	return l
+}
+
+// Participant copies a participant.
+func Participant(p api.Participant) api.Participant {
+	p.Trust, p.Slots = Trust(p.Trust), List(p.Slots, Slot)
+	return p
+}
