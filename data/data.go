@@ -103,3 +103,15 @@ func Participant(p api.Participant) api.Participant {
 	p.Trust, p.Slots = Trust(p.Trust), List(p.Slots, Slot)
 	return p
 }
+
+// Parcel copies a parcel.
+func Parcel(p api.Parcel) api.Parcel {
+	p.Letter = Letter(p.Letter)
+	return p
+}
+
+// Network copies a network.
+func Network(n api.Network) api.Network {
+	n.Parcels, n.Parts, n.Delays = List(n.Parcels, Parcel), Flat(n.Parts), Flat(n.Delays)
+	return n
+}
