@@ -115,3 +115,10 @@ func Network(n api.Network) api.Network {
 	n.Parcels, n.Parts, n.Delays = List(n.Parcels, Parcel), Flat(n.Parts), Flat(n.Delays)
 	return n
 }
+
+// World copies a world.
+func World(w api.World) api.World {
+	w.Nodes, w.Net = List(w.Nodes, Participant), Network(w.Net)
+	w.Trusts = List(w.Trusts, func(l []api.Trust) []api.Trust { return List(l, Trust) })
+	return w
+}
