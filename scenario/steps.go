@@ -1,6 +1,9 @@
 package scenario
 
 import (
+	"cmp"
+	"slices"
+
 	"trustquorum/api"
 	"trustquorum/data"
 	"trustquorum/network"
@@ -58,6 +61,9 @@ func (r *run) tick() {
 		r.change(k, func(p api.Participant) (api.Participant, api.Errno) { return participant.Tick(p, r.Time) })
 	})
 	r.well(r.sendAll)
+	slices.SortFunc(r.Net.Parcels, func(a, b api.Parcel) int {
+		return cmp.Or(cmp.Compare(a.Due, b.Due), cmp.Compare(a.From, b.From), cmp.Compare(a.To, b.To), cmp.Compare(a.Number, b.Number))
+	})
 }
 
 // sendAll sends the letters of a participant to all others.
@@ -65,9 +71,21 @@ func (r *run) sendAll(from int) {
 	for _, l := range participant.Letters(r.Nodes[from]) {
 		for to := range r.Nodes {
 			if to != from {
-				r.send(from, to, l)
+				r.post(from, to, l)
 			}
 		}
+	}
+}
+
+// post sends a letter by a network that is empty, and so need not be copied as a whole for each of the many letters of a tick. The parcels are in disorder until the end of the tick.
+func (r *run) post(from, to int, l api.Letter) {
+	if len(r.Net.Parcels) >= api.MaxParcels {
+		return
+	}
+	empty := api.Network{Next: r.Net.Next, Delays: r.Net.Delays}
+	if sent, e := network.Send(empty, from, to, l, r.Time); e == api.OK {
+		r.Net.Parcels = append(r.Net.Parcels, sent.Parcels...)
+		r.Net.Next = sent.Next
 	}
 }
 
