@@ -122,3 +122,9 @@ func World(w api.World) api.World {
 	w.Trusts = List(w.Trusts, func(l []api.Trust) []api.Trust { return List(l, Trust) })
 	return w
 }
+
+// Ledger copies a ledger.
+func Ledger(g api.Ledger) api.Ledger {
+	g.Accounts, g.Lines, g.Offers = Flat(g.Accounts), Flat(g.Lines), Flat(g.Offers)
+	return g
+}
