@@ -128,3 +128,15 @@ func Ledger(g api.Ledger) api.Ledger {
 	g.Accounts, g.Lines, g.Offers = Flat(g.Accounts), Flat(g.Lines), Flat(g.Offers)
 	return g
 }
+
+// Op copies an operation.
+func Op(o api.Op) api.Op {
+	o.Path = Flat(o.Path)
+	return o
+}
+
+// Tx copies a transaction.
+func Tx(t api.Tx) api.Tx {
+	t.Ops = List(t.Ops, Op)
+	return t
+}
