@@ -140,3 +140,8 @@ func Tx(t api.Tx) api.Tx {
 	t.Ops = List(t.Ops, Op)
 	return t
 }
+
+// Archive copies an archive.
+func Archive(a api.Archive) api.Archive {
+	return api.Archive{First: Ledger(a.First), Items: Flat(a.Items)}
+}
