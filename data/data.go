@@ -1,4 +1,4 @@
-// Package data copies the types of api that contain lists. Results of all layers are copies, so that they share no memory with arguments.
+// Package data copies and compares the types of api that contain lists. Results of all layers are copies, so that they share no memory with arguments.
 package data
 
 import "trustquorum/api"
