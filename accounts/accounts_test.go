@@ -132,6 +132,8 @@ func TestGiveAndTake(t *testing.T) {
 
 // P36.3
 func TestBegin(t *testing.T) {
+	last, e := accounts.Begin(list(account(1, 5, api.MaxSequence-1)), 1, api.MaxSequence, 5)
+	same(t, "the last one", fmt.Sprint(last, e), "[{1 0 1000000}] 0")
 	l := list(account(3, 10, 0), account(7, api.MaxAmount, api.MaxSequence), account(9, api.MaxAmount, 5))
 	for _, c := range []struct {
 		id, sequence, fee int
@@ -139,6 +141,7 @@ func TestBegin(t *testing.T) {
 	}{
 		{3, 1, 5, "[{3 5 1} {7 1000000000000 1000000} {9 1000000000000 5}] 0"},
 		{3, 1, 10, "[{3 0 1} {7 1000000000000 1000000} {9 1000000000000 5}] 0"},
+		{3, 1, 1, "[{3 9 1} {7 1000000000000 1000000} {9 1000000000000 5}] 0"},
 		{9, 6, 100000, "[{3 10 0} {7 1000000000000 1000000} {9 999999900000 6}] 0"},
 		{4, 9, 0, "[] 67"},
 		{3, 0, 0, "[] 68"},

@@ -75,8 +75,8 @@ func TestNew(t *testing.T) {
 		i, e := archive.Check(api.Archive{First: g})
 		same(t, "Check", fmt.Sprint(i, e), fmt.Sprint(-1, api.ErrLedger))
 	}
-	c := api.Closed{Number: -7, Value: "a b", Link: math.MaxUint64, Digest: 5}
-	same(t, "Link", archive.Link(c), declaration.Hash("-7 18446744073709551615 5 a b"))
+	c := api.Closed{Number: -7, Value: "a b", Link: math.MaxUint64, Digest: 12345}
+	same(t, "Link", archive.Link(c), declaration.Hash("-7 18446744073709551615 12345 a b"))
 	same(t, "Top", archive.Top(api.Archive{First: first()}), 77)
 	same(t, "Top", archive.Top(api.Archive{First: first(), Items: []api.Closed{{}, c}}), archive.Link(c))
 	same(t, "Last", archive.Last(api.Archive{First: first()}), 5)

@@ -137,6 +137,8 @@ func TestValid(t *testing.T) {
 	m := begin(uniform(3, 2), 4)
 	m.Stopped = 3
 	same(t, "valid", assembly.Valid(m), true)
+	same(t, "one member", assembly.Valid(begin(uniform(1, 1), 0)), true)
+	same(t, "ten members", assembly.Valid(begin(uniform(10, 1), 1)), true)
 	for name, m := range broken() {
 		same(t, name, assembly.Valid(m), false)
 		got, e := assembly.Step(m, stop(0))
@@ -284,6 +286,9 @@ func TestCalm(t *testing.T) {
 	m.Voters[1].Seq = api.MaxTurn
 	calm, e = assembly.Calm(m)
 	same(t, "the greatest number", fmt.Sprint(e, assembly.Valid(calm), calm.Voters[1].Seq), fmt.Sprint(0, false, api.MaxTurn+1))
+	m.Voters[1].Seq = api.MaxTurn - 1
+	last, _ := assembly.Calm(m)
+	same(t, "the last number", fmt.Sprint(assembly.Valid(last), last.Voters[1].Seq, len(last.Voters[2].Heard), len(last.Voters[2].Confirms)), fmt.Sprint(true, api.MaxTurn, 2, 1))
 	// What came behind the step with which the meeting is not valid any more changes nothing.
 	same(t, "no further step", len(calm.Voters[2].Heard), 0)
 }

@@ -104,6 +104,7 @@ func TestRestrict(t *testing.T) {
 		10:            of(none, trust(1, 1), none, trust(0)),
 		-1:            of(none, none, none, none),
 		1024:          of(none, none, none, none),
+		1025:          of(none, none, none, none),
 		math.MinInt:   of(none, none, none, none),
 		math.MaxInt:   of(none, none, none, none),
 		1<<40 | 1<<10: of(none, none, none, none),

@@ -63,6 +63,7 @@ func TestValid(t *testing.T) {
 		"commit":                    commit(of(3, "a"), of(3, "a"), 2, 3),
 		"commit, another Counter":   commit(of(3, "a"), of(9, "a"), 2, 9),
 		"commit, Prepared Infinity": commit(of(1, "a"), of(api.Infinity, "a"), 1, 1000),
+		"commit, MaxCounter":        commit(of(1000, "a"), of(1000, "a"), 1000, 1000),
 		"external":                  external(of(3, "a"), 1, 1000),
 		"external, Infinity":        external(of(api.Infinity, "a"), 7, 7),
 		"limits":                    with(good, func(e *api.Envelope) { e.Node, e.Slot, e.Seq = 9, api.MaxSlot, 1000000 }),

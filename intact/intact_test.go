@@ -105,10 +105,10 @@ func TestErrors(t *testing.T) {
 		same(t, "Explain", fmt.Sprint(x, e), fmt.Sprint(api.Explanation{}, api.ErrNode))
 		same(t, "Check", intact.Check(four, four, 15, v, api.Explanation{Kind: api.ExplainBefouled}), false)
 		same(t, "Check", intact.Check(four, four, 0, v, api.Explanation{Kind: api.ExplainIntact}), false)
-		_, _, e = intact.Follows(four, four, 0, 1<<10)
-		same(t, "Follows", e, api.ErrInvalid)
-		_, _, e = intact.Follows(four, four, 0, v<<4|1<<4)
-		same(t, "Follows", e, api.ErrInvalid)
+	}
+	for _, s := range []int{16, 1 << 10, -1, math.MinInt} {
+		v, ok, e := intact.Follows(four, four, 0, s)
+		same(t, "Follows", fmt.Sprint(v, ok, e), fmt.Sprint(0, false, api.ErrInvalid))
 	}
 }
 

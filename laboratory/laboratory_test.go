@@ -247,6 +247,7 @@ func TestReport(t *testing.T) {
 		{uniform(4, 3), 0, "part 7 8; prefer 0 1 a; prefer 1 1 a; prefer 2 1 a; tick 163", "time 163; decided 0 1 a; decided 1 1 a; decided 2 1 a; intact 15; safe; waiting; "},
 		{uniform(4, 3), 1, "stop 1", "time 0; intact 0; safe; settled; "},
 		{uniform(4, 3), 1, "tick 1", "time 1; intact 14; safe; settled; "},
+		{uniform(4, 3), 0, "propose 3 2 x; propose 3 3 x; propose 3 4 x; propose 3 5 x; propose 3 6 x; propose 3 7 x; propose 3 8 x; propose 3 9 x; part 7 8; prefer 0 1 a; prefer 1 1 a; prefer 2 1 a; tick 12", "time 12; decided 0 1 a; decided 1 1 a; decided 2 1 a; intact 15; safe; waiting; "},
 		{uniform(8, 5), 0, "tick 1", "time 1; intact unknown; unsafe; waiting; "},
 		{uniform(2, 1), 0, "prefer 0 3 z; prefer 0 1 a; prefer 1 1 b", "time 0; decided 0 1 a; decided 0 3 z; decided 1 1 b; intact 0; safe; settled; "},
 		{uniform(4, 3), 0, "tick 162", "time 162; intact 15; safe; settled; "},

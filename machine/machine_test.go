@@ -276,8 +276,8 @@ func TestPropose(t *testing.T) {
 		m, e := machine.Propose(x.m, v)
 		same(t, "no value", fmt.Sprint(m, e), fmt.Sprint(api.Machine{}, api.ErrInvalid))
 	}
-	_, e := machine.Propose(x.m, long)
-	same(t, "long", e, api.OK)
+	m, e := machine.Propose(x.m, long)
+	same(t, "long", fmt.Sprint(machine.Check(m), e), "true 0")
 	alone := &tester{t: t, m: fresh(0, trust(1, 0))}
 	alone.do(machine.Propose(alone.m, "a"))("1 3 1a - - - 1 1")
 	alone.do(machine.Propose(alone.m, "b"))("1 3 1a - - - 1 1")

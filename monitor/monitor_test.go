@@ -109,6 +109,8 @@ func TestRecord(t *testing.T) {
 	first, _ := scenario.New(c, 8)
 	seen, end, e = monitor.Record(c, 8, make([]api.Step, 301), 3)
 	same(t, "too many", fmt.Sprint(seen, end, e), fmt.Sprint([]int{}, first, api.ErrLimit))
+	_, _, e = monitor.Record(c, 8, make([]api.Step, 300), 3)
+	same(t, "not too many", e, api.ErrScript)
 }
 
 // P44.2: what counts.

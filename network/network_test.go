@@ -84,6 +84,7 @@ func TestCheck(t *testing.T) {
 	same(t, "empty", network.Check(api.Network{}), true)
 	same(t, "all", network.Check(api.Network{Next: 1000000000, Parts: []int{1, 2, 4, 8, 16, 32, 64, 128, 256, 512}}), true)
 	same(t, "many", network.Check(many(4000)), true)
+	same(t, "one part", network.Check(api.Network{Parts: []int{1023}}), true)
 	for name, n := range broken() {
 		same(t, name, network.Check(n), false)
 		want := fmt.Sprint(api.Network{}, api.ErrState)
@@ -122,6 +123,8 @@ func TestApart(t *testing.T) {
 		{[]int{1, 512}, 0, 9, true},
 		{[]int{1, 512}, 0, 10, false},
 		{[]int{1, 512}, -1, 9, false},
+		{[]int{1, 512}, 9, -1, false},
+		{[]int{1, 2, 1023}, 0, 1, false},
 		{[]int{1, 512}, math.MaxInt, math.MinInt, false},
 	} {
 		same(t, fmt.Sprint(c), network.Apart(api.Network{Parts: c.parts}, c.a, c.b), c.want)

@@ -318,6 +318,34 @@ func TestTick(t *testing.T) {
 	same(t, "the last round", fmt.Sprint(got, e), fmt.Sprint(api.Nominator{}, api.ErrLimit))
 }
 
+// P22.3: all leaders of all rounds are listened to, itself among them.
+func TestLeaders(t *testing.T) {
+	for slot := range 40 {
+		for _, heard := range []int{0, 1, 2, 3} {
+			n := start(0, slot, three, "own")
+			for k := 1; k <= 2; k++ {
+				if heard>>(k-1)&1 == 1 {
+					n, _ = nomination.Hear(n, said(k, 1, trust(3, 7, 8, 9), fmt.Sprint("v", k), ""))
+				}
+			}
+			for round := 1; round < 8; round++ {
+				all, _ := leaders.Leaders(three, 0, slot, round)
+				var want []api.Value
+				for k := 1; k <= 2; k++ {
+					if nodeset.Has(all, k) && heard>>(k-1)&1 == 1 {
+						want = append(want, fmt.Sprint("v", k))
+					}
+				}
+				if nodeset.Has(all, 0) {
+					want = append(want, "own")
+				}
+				same(t, fmt.Sprint(slot, heard, round), fmt.Sprint(n.Votes), fmt.Sprint(want))
+				n, _ = nomination.Tick(n)
+			}
+		}
+	}
+}
+
 // P22.3 and P22.4
 func TestDeclare(t *testing.T) {
 	n := start(0, led(three, 0), three, "own")

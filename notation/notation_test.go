@@ -27,10 +27,11 @@ func nodes(l ...int) []int { return l }
 // P3.1
 func TestParse(t *testing.T) {
 	for text, want := range map[string]api.Trust{
-		"2of( 1 of (2,3),0 )":      trust(2, nodes(0), trust(1, nodes(2, 3))),
-		"1 of (0)":                 trust(1, nodes(0)),
-		"1of(0)":                   trust(1, nodes(0)),
-		"   1   of   (   9   )   ": trust(1, nodes(9)),
+		"2of( 1 of (2,3),0 )":        trust(2, nodes(0), trust(1, nodes(2, 3))),
+		"1 of (0)":                   trust(1, nodes(0)),
+		"10 of(0,1,2,3,4,5,6,7,8,9)": trust(10, nodes(0, 1, 2, 3, 4, 5, 6, 7, 8, 9)),
+		"1of(0)":                     trust(1, nodes(0)),
+		"   1   of   (   9   )   ":   trust(1, nodes(9)),
 		"3 of (1, 1 of (5), 0, 2 of (4, 1 of (3, 2), 1))": trust(3, nodes(1, 0), trust(1, nodes(5)), trust(2, nodes(4, 1), trust(1, nodes(3, 2)))),
 		"1 of (1 of (1 of (1 of (0))))":                   trust(1, nil, trust(1, nil, trust(1, nil, trust(1, nodes(0))))),
 	} {

@@ -74,6 +74,7 @@ func TestCheck(t *testing.T) {
 		"Fees":            {func(g *api.Ledger) { g.Fees = -1 }, api.ErrLedger},
 		"great Fees":      {func(g *api.Ledger) { g.Fees = api.MaxAmount + 1 }, api.ErrLedger},
 		"Number":          {func(g *api.Ledger) { g.Number = -1 }, api.ErrLedger},
+		"Number 0":        {func(g *api.Ledger) { g.Number = 0 }, api.OK},
 		"great Number":    {func(g *api.Ledger) { g.Number = api.MaxSequence + 1 }, api.ErrLedger},
 		"Seller":          {func(g *api.Ledger) { g.Offers[0].Seller = 7 }, api.ErrLedger},
 		"Selling":         {func(g *api.Ledger) { g.Offers[0].Selling = asset("x", 1) }, api.ErrLedger},

@@ -117,6 +117,11 @@ func TestCheck(t *testing.T) {
 			same(t, name, fmt.Sprint(v, ok), "false")
 		}
 	}
+	for _, node := range []int{-1, 10, math.MinInt} {
+		same(t, "no slots", participant.Check(api.Participant{Node: node, Trust: four}), false)
+	}
+	same(t, "no slots", participant.Check(api.Participant{Node: 9, Trust: four}), true)
+	same(t, "no slots", participant.Check(api.Participant{Node: 9, Trust: trust(0)}), false)
 	same(t, "eight slots", participant.Check(begun(four, 1, 2, 3, 4, 5, 6, 7, 8)), true)
 }
 

@@ -221,6 +221,7 @@ func TestBest(t *testing.T) {
 		"direct":             {[]api.Offer{direct}, 3, native, eur, 10, "[] 50 0"},
 		"by dollars":         {append([]api.Offer{direct}, cheap...), 3, native, eur, 10, "[{USD 1}] 20 0"},
 		"as cheap by yen":    {append(slices.Clone(cheap), yens...), 3, native, eur, 10, "[{USD 1}] 20 0"},
+		"in the other order": {[]api.Offer{offer(1, 5, yen, native, 50, 1, 1), offer(2, 5, eur, yen, 50, 2, 1), offer(3, 5, usd, native, 50, 2, 1), offer(4, 5, eur, usd, 50, 1, 1)}, 3, native, eur, 10, "[{USD 1}] 20 0"},
 		"as cheap, direct":   {append([]api.Offer{offer(1, 5, eur, native, 50, 2, 1)}, cheap...), 3, native, eur, 10, "[] 20 0"},
 		"two":                {append([]api.Offer{direct}, long...), 3, native, eur, 10, "[{YEN 1} {USD 1}] 10 0"},
 		"less than direct":   {append([]api.Offer{direct}, yens...), 3, native, eur, 20, "[{YEN 1}] 40 0"},

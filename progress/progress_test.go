@@ -107,6 +107,9 @@ func TestHolds(t *testing.T) {
 	same(t, "right", scenario.Check(mixed), true)
 	stopped, _ := scenario.Do(w, api.Step{Kind: api.StepStop, Node: 3})
 	self := run(t, uniform(2, 1), 0, prefer(0, 1, "a"))
+	deep := uniform(2, 1)
+	deep.Members[0].Trust = api.Trust{Threshold: 1, Inner: []api.Trust{{Threshold: 1, Inner: []api.Trust{{Threshold: 1, Inner: []api.Trust{trust(1, 0)}}}}}}
+	deeper := api.Step{Kind: api.StepDeclare, Node: 0, Trust: trust(1, 0)}
 	for name, c := range map[string]struct {
 		before, after api.World
 		want          bool
@@ -124,6 +127,8 @@ func TestHolds(t *testing.T) {
 		"nobody is intact, lost": {self, run(t, uniform(2, 1), 0), false},
 		"not right":              {api.World{}, calm, false},
 		"not right, after":       {empty, api.World{}, false},
+		"an error, after":        {run(t, deep, 0), run(t, deep, 0, deeper), false},
+		"an error, before":       {run(t, deep, 0, deeper), run(t, deep, 0), false},
 		"an error":               {run(t, uniform(8, 5), 0), run(t, uniform(8, 5), 0), false},
 	} {
 		same(t, name, progress.Holds(c.before, c.after), c.want)

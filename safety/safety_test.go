@@ -123,6 +123,8 @@ func TestDiverged(t *testing.T) {
 		"the same":            {selfish(2), 0, []api.Step{prefer(0, 1, "a"), prefer(1, 1, "a")}, "[]", true, "a 3"},
 		"the last two":        {selfish(3), 0, []api.Step{prefer(0, 1, "a"), prefer(1, 1, "a"), prefer(2, 1, "b")}, "[{0 1 a} {2 1 b}]", true, "a 3"},
 		"the first slot":      {selfish(3), 0, []api.Step{prefer(0, 7, "a"), prefer(1, 7, "b"), prefer(1, 3, "c"), prefer(2, 3, "d")}, "[{1 3 c} {2 3 d}]", true, " 0"},
+		"the first slot, too": {selfish(3), 0, []api.Step{prefer(0, 5, "a"), prefer(0, 9, "z"), prefer(1, 2, "c"), prefer(1, 5, "b"), prefer(2, 2, "d")}, "[{1 2 c} {2 2 d}]", true, " 0"},
+		"behind another slot": {selfish(2), 0, []api.Step{prefer(0, 3, "q"), prefer(1, 1, "b"), prefer(0, 1, "b")}, "[]", true, "b 3"},
 		"the least pair":      {selfish(4), 0, []api.Step{prefer(1, 1, "a"), prefer(2, 1, "b"), prefer(3, 1, "c")}, "[{1 1 a} {2 1 b}]", true, "a 2"},
 		"other slots":         {selfish(2), 0, []api.Step{prefer(0, 1, "a"), prefer(1, 2, "b")}, "[]", true, "a 1"},
 		"stopped ones count":  {selfish(2), 0, []api.Step{prefer(0, 1, "a"), prefer(1, 1, "b"), stop(0)}, "[{0 1 a} {1 1 b}]", true, "a 1"},
@@ -152,6 +154,8 @@ func TestDiverged(t *testing.T) {
 	v, s := safety.Agreed(w, 1)
 	same(t, "an ill one does not count", fmt.Sprint(v, s), "b2")
 	same(t, "not right", len(safety.Diverged(api.World{})), 0)
+	v, s = safety.Agreed(run(t, selfish(2), 0, prefer(0, 1, "a"), prefer(0, 2, "b"), prefer(1, 2, "b")), 2)
+	same(t, "the second slot", fmt.Sprint(v, s), "b3")
 	v, s = safety.Agreed(api.World{}, 1)
 	same(t, "not right", fmt.Sprint(v, s), "0")
 }

@@ -154,6 +154,7 @@ func TestCheck(t *testing.T) {
 	w := base()
 	w.Trusts[0] = append(w.Trusts[0], trust(1, 0), trust(1, 1), trust(1, 2))
 	same(t, "four trusts", scenario.Check(w), true)
+	same(t, "ten", scenario.Check(begin(uniform(10, 7), 1023)), true)
 }
 
 // P32.2: a tick, done by hand.

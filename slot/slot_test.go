@@ -126,6 +126,8 @@ func TestCheck(t *testing.T) {
 	s := decided
 	s.Round, s.Next = api.MaxRounds, 212
 	same(t, "right", slot.Check(s), true)
+	s.Next = 0
+	same(t, "right", slot.Check(s), true)
 	s.Done, s.Value, s.Machine = false, "", begin(1, trust(1, 0), "", 0).Machine
 	same(t, "right, though not settled", slot.Check(s), true)
 	s.Value = "a"
@@ -270,6 +272,29 @@ func TestUnsettled(t *testing.T) {
 	same(t, "not settled", next.Machine.Proposed, "")
 	next, _ = slot.Prefer(s, "p")
 	same(t, "settled", next.Machine.Proposed, "c")
+	// The timer of a slot that is not settled runs out.
+	x := trust(1, 0, 5)
+	s = begin(1, x, "", 0)
+	s.Machine.Ballot, s.Machine.Seq, s.Timer = of(1000, "p"), 1, api.Timer{Counter: 1000, Due: 1}
+	s.Nominator.Accepts, s.Nominator.Candidates = []api.Value{"c"}, []api.Value{"c"}
+	same(t, "right", slot.Check(s), true)
+	next, _ = slot.Tick(s, 0)
+	same(t, "not yet", next.Machine.Proposed, "")
+	next, _ = slot.Tick(s, 1)
+	same(t, "settled", next.Machine.Proposed, "c")
+}
+
+// P29.3: a round in which a candidate is found.
+func TestCandidateByRound(t *testing.T) {
+	three := trust(2, 0, 1, 2)
+	s := begin(led(three, 2), three, "own", 0)
+	s, _ = slot.Nominated(s, nominates(1, 1, three, "own", "own"))
+	for now := 0; len(s.Nominator.Candidates) == 0; now++ {
+		same(t, "not yet", s.Machine.Proposed, "")
+		same(t, "in time", now < 200, true)
+		s, _ = slot.Tick(s, now)
+	}
+	same(t, "proposed at once", s.Machine.Proposed, "own")
 }
 
 // P29.4

@@ -115,6 +115,8 @@ func TestValid(t *testing.T) {
 		{deep(5), api.ErrLimit},
 		{deep(60000), api.ErrLimit},
 		{wide(99), api.OK},
+		{of(1, 0, wide(99).Inner[0]), api.OK},
+		{of(1, 0, 1, wide(99).Inner[0]), api.ErrLimit},
 		{wide(100), api.ErrLimit},
 		{many, api.ErrLimit},
 		{of(0, deep(4)), api.ErrLimit},

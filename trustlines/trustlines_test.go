@@ -139,6 +139,7 @@ func TestLimit(t *testing.T) {
 		"many, zero":       {make([]api.Line, 60), 2, usd, 0, show(make([]api.Line, 60)), api.OK},
 		"many, negative":   {make([]api.Line, 60), 2, usd, -1, "", api.ErrAmount},
 		"one of many":      {append(make([]api.Line, 60), line(2, usd, 0, 1)), 2, usd, 2, show(append(make([]api.Line, 60), line(2, usd, 0, 2))), api.OK},
+		"first of many":    {append(list(line(2, usd, 0, 1)), make([]api.Line, 60)...), 2, usd, 2, show(append(list(line(2, usd, 0, 2)), make([]api.Line, 60)...)), api.OK},
 		"any list":         {list(line(9, usd, 1, 1), line(1, eur, 1, 1)), 5, usd, 1, "5USD0/1 9USD1/1 1EUR1/1 ", api.OK},
 		"any list, end":    {list(line(1, eur, 1, 1), line(4, eur, 1, 1)), 5, usd, 1, "1EUR1/1 4EUR1/1 5USD0/1 ", api.OK},
 		"negative balance": {list(line(5, usd, -1, 1)), 5, usd, 0, "5USD-1/0 ", api.OK},

@@ -235,6 +235,9 @@ func TestSettling(t *testing.T) {
 	v, _ = voting.Hear(v, message(1, 1, three, "", "0=2 0=3"))
 	v, _ = voting.Hear(v, message(2, 1, three, "", "0=2 0=3"))
 	same(t, "blocked", show(v), "3 v 0=1 a 0=2 c 0=2 h 2")
+	several, _ := voting.Hear(start(0, three), message(1, 1, three, "", "0=2 1=1 7=3"))
+	several, _ = voting.Hear(several, message(2, 1, three, "", "0=2 1=1 7=3"))
+	same(t, "several", show(several), "2 v  a 0=2 1=1 7=3 c 0=2 1=1 7=3 h 2")
 	// The trust of others counts as they say it now.
 	w, _ := voting.Vote(start(0, three), one("0=1"))
 	w, _ = voting.Hear(w, message(1, 1, trust(2, 1, 5), "0=1", ""))
